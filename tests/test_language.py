@@ -25,8 +25,25 @@ BARRED_NODES = (
 )
 
 
+BUILTIN_METHODS = set(
+    "append clear copy count endswith extend find get index insert isalnum isalpha isdigit islower isspace isupper "
+    "items join keys ljust lower lstrip partition pop remove replace reverse rfind rjust rpartition rsplit rstrip "
+    "setdefault split splitlines startswith strip update upper values zfill bit_length add discard".split()
+)
+OWN_CLASS_METHODS = {"__init__"}
+
+
 def nodes_of(path):
     return list(ast.walk(ast.parse(path.read_text())))
+
+
+def own_imports(path):
+    """What a file imports from the package: (module, name) each."""
+    return [
+        (node.module.split(".")[1], alias.name)
+        for node in nodes_of(path) if isinstance(node, ast.ImportFrom) and node.module != "__future__"
+        for alias in node.names
+    ]
 
 
 def bound_names(nodes):
@@ -81,6 +98,47 @@ class Language(unittest.TestCase):
                     self.assertEqual(node.level, 0, path.name)
                     self.assertRegex(node.module, r"^wherefrom\.[a-z]+$", path.name)
                     self.assertNotIn("*", [name.name for name in node.names], path.name)
+
+    def test_imports_name_the_file_that_defines(self):
+        for path in FILES:
+            for module, name in own_imports(path):
+                tree = ast.parse((PACKAGE / f"{module}.py").read_text())
+                defined = [node.name for node in tree.body if isinstance(node, (ast.FunctionDef, ast.ClassDef))]
+                for node in tree.body:
+                    if isinstance(node, ast.Assign):
+                        defined += [target.id for target in node.targets]
+                self.assertIn(name, defined, path.name)
+
+    def test_no_two_files_import_from_each_other(self):
+        reached = {path.stem: {module for module, _ in own_imports(path)} for path in FILES}
+        for _ in FILES:
+            for name, others in reached.items():
+                reached[name] = others.union(*(reached[other] for other in others))
+        for name, others in reached.items():
+            self.assertNotIn(name, others)
+
+    def test_no_variable_has_the_name_of_an_import_or_a_class(self):
+        for path in FILES:
+            nodes = nodes_of(path)
+            taken = [name for _, name in own_imports(path)]
+            taken += [node.name for node in nodes if isinstance(node, ast.ClassDef)]
+            for node in nodes:
+                if isinstance(node, ast.Name) and not isinstance(node.ctx, ast.Load):
+                    self.assertNotIn(node.id, taken, path.name)
+                elif isinstance(node, ast.arg):
+                    self.assertNotIn(node.arg, taken, path.name)
+
+    def test_methods_that_are_called(self):
+        for path in FILES:
+            for node in nodes_of(path):
+                if isinstance(node, ast.Call) and isinstance(node.func, ast.Attribute):
+                    self.assertIn(node.func.attr, BUILTIN_METHODS | OWN_CLASS_METHODS, path.name)
+
+    def test_powers_by_a_written_number_alone(self):
+        for path in FILES:
+            for node in nodes_of(path):
+                if isinstance(node, ast.BinOp) and isinstance(node.op, ast.Pow):
+                    self.assertIsInstance(node.right, ast.Constant, path.name)
 
     def test_names(self):
         for path in FILES:

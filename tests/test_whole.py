@@ -1,0 +1,152 @@
+"""The whole promise, as far as it speaks of books, rows, words and moves."""
+
+import itertools
+import unittest
+
+from wherefrom.doing import borne_in, last_row, led_by
+from wherefrom.judging import ends_of, judge_book, parting
+from wherefrom.makers import both_books, folding, keeping, sorting, staying, turning
+from wherefrom.moves import join_words, moves_hold, wear_down, word_moved
+from wherefrom.words import is_forward, last_order, normal_word, order_behind
+from followed import forward_words, good_books, last_from, other_books, some_row, ups
+from samples import mixed_book
+
+KINDS = ((), (2,), (1, 0), (2, 1, 0), (4, 3, 2, 1), (3, 3, 1, 0), (3, 0, 2, 0), (4, 2, 2, 1), (1, 4, 0, 2))
+
+
+def rows_of_kinds(book, kinds):
+    """Some rows of these kinds, with unlike burdens."""
+    return [tuple((kind, (seed + k * (seed + 1)) % book[1]) for k, kind in enumerate(kinds)) for seed in range(3)]
+
+
+def settings(book):
+    """The rows of all kinds that the book has, with their forward words."""
+    return [
+        (row, words)
+        for kinds in KINDS if max(kinds, default=0) < len(book[0])
+        for words in [forward_words(kinds)]
+        for row in rows_of_kinds(book, kinds)
+    ]
+
+
+class GoodBooks(unittest.TestCase):
+    def test_whatever_forward_word_led_there(self):
+        for book in good_books(5, 3):
+            for row, found in settings(book):
+                for order, words in found.items():
+                    borne = borne_in(book, row, order)
+                    for word in words:
+                        self.assertEqual(led_by(book, row, word), borne)
+
+    def test_parts_may_settle_first(self):
+        for book in good_books():
+            for many in (2, 3, 5, 10):
+                for seed in range(3):
+                    row = some_row(book, many, seed)
+                    last = last_row(book, row)
+                    for cut in range(many + 1):
+                        rear, fore = row[:cut], row[cut:]
+                        self.assertEqual(last_row(book, last_row(book, rear) + last_row(book, fore)), last)
+                        self.assertEqual(last_row(book, rear + last_row(book, fore)), last)
+                        self.assertEqual(last_row(book, last_row(book, rear) + fore), last)
+
+    def test_wherever_they_set_out(self):
+        spots = ((0, 1, 2, 3), (0, 1, 5000, 10000), (-9, 70, 71, 72), (0, 100, 101, 900))
+        for book in good_books(5, 3):
+            for seed in range(4):
+                row = some_row(book, 4, seed)
+                for setting in spots:
+                    self.assertEqual(last_from(book, row, setting), last_row(book, row))
+
+    def test_no_move_between_forward_words_changes_what_is_borne(self):
+        for book in (sorting((0, 1, 2, 3, 4), sorts=3), turning((0, 1, 2, 3, 4), ups(5, 3), sorts=5)):
+            for row, found in settings(book):
+                for words in found.values():
+                    for one, other in itertools.product(words[:4], words[-4:]):
+                        self.one_by_one(book, row, one, join_words(one, other))
+
+    def one_by_one(self, book, row, word, moves):
+        borne = led_by(book, row, word)
+        for move in moves:
+            word = word_moved(word, (move,))
+            self.assertEqual(led_by(book, row, word), borne)
+
+
+class AnyBook(unittest.TestCase):
+    def test_just_one_of_good_and_parted(self):
+        seen = set()
+        for book in good_books() + other_books():
+            judged, parted = judge_book(book), parting(book)
+            self.assertEqual(judged[0] == "good", parted is None)
+            self.assertEqual(judged[0] == "parted", parted is not None)
+            if parted:
+                row, spots, others = parted
+                self.assertNotEqual(last_from(book, row, spots), last_from(book, row, others))
+                self.assertGreater(len(ends_of(book, row)), 1)
+            seen.add(judged[0])
+        self.assertEqual(seen, {"good", "parted"})
+
+    def test_two_walkers_never_part(self):
+        for book in other_books():
+            for u in range(len(book[0])):
+                for v in range(len(book[0])):
+                    for a, b in itertools.product(range(book[1]), repeat=2):
+                        self.assertEqual(len(ends_of(book, ((u, a), (v, b)))), 1)
+
+    def test_two_books_side_by_side(self):
+        books = [maker((0, 1, 2), sorts=2) for maker in (keeping, staying, sorting, folding)]
+        books += [mixed_book((0, 1, 2), 2, seed) for seed in range(6)]
+        books += [mixed_book((0, 1, 2), 3, seed) for seed in range(3)]
+        for one, other in itertools.product(books, repeat=2):
+            if one[1] * other[1] <= 6:
+                both = {judge_book(one)[0], judge_book(other)[0]}
+                self.assertEqual(judge_book(both_books(one, other))[0] == "good", both == {"good"})
+
+    def test_forward_words_to_one_order_are_joined(self):
+        for kinds in KINDS + ((4, 3, 2, 1, 0), (3, 2, 2, 1, 1)):
+            for order, words in forward_words(kinds).items():
+                for one, other in zip(words, reversed(words)):
+                    moves = join_words(one, other)
+                    self.assertIs(moves_hold(one, other, moves), True)
+                    for move in moves:
+                        one = word_moved(one, (move,))
+                        self.assertEqual(order_behind(kinds, one), order)
+
+
+class ToldAgain(unittest.TestCase):
+    """What is asked again is told the same, whatever was asked between."""
+
+    def asked(self):
+        book, good = mixed_book((0, 2, 3), 3), sorting((0, 1, 2), sorts=2)
+        row = ((2, 0), (1, 1), (0, 1))
+        moves = [("turn", 0), ("come", 3, 8)]
+        return [
+            (led_by, (book, row, (0, 1, 0))), (borne_in, (book, row, (2, 1, 0))), (last_row, (good, row)),
+            (judge_book, (book,)), (judge_book, (good,)), (parting, (book,)), (parting, (good,)),
+            (ends_of, (book, row)), (normal_word, ((2, 1, 0),)), (last_order, ((2, 1, 0),)),
+            (is_forward, ((2, 1, 0), (1, 0, 2))), (order_behind, ((2, 1, 0), (0, 1))),
+            (word_moved, ((0, 1, 0), moves)), (wear_down, ((0, 1, 0, 2, 2),)), (join_words, ((1, 0, 1), (0, 1, 0))),
+            (moves_hold, ((0, 1, 0), (1, 0, 1), (("turn", 0),))),
+        ]
+
+    def test_the_same(self):
+        asked = self.asked()
+        before = repr([things for _, things in asked])
+        first = [teller(*things) for teller, things in asked]
+        again = [teller(*things) for teller, things in reversed(asked)][::-1]
+        self.assertEqual(first, again)
+        self.assertEqual(repr([things for _, things in asked]), before)
+
+    def test_tuples_texts_numbers_truths_and_none_alone(self):
+        for teller, things in self.asked():
+            self.plain(teller(*things))
+
+    def plain(self, thing):
+        self.assertIn(type(thing), (tuple, str, int, bool, type(None)))
+        if type(thing) is tuple:
+            for part in thing:
+                self.plain(part)
+
+
+if __name__ == "__main__":
+    unittest.main()

@@ -69,21 +69,34 @@ def follow(book, row, word):
     return tuple(zip(kinds, burdens))
 
 
+def met_on(book, kinds, spots):
+    """All passings (moment, i, j) of a setting out, moments as fractions, in the order of point 23."""
+    paces = book[0]
+    found = []
+    for i, kind in enumerate(kinds):
+        for j in range(i + 1, len(kinds)):
+            if kind > kinds[j]:
+                moment = Fraction(spots[j] - spots[i], paces[kind] - paces[kinds[j]])
+                found.append((moment, -kind, -kinds[j], i, j))
+    return [(moment, i, j) for moment, _, _, i, j in sorted(found)]
+
+
+def stand_at(book, row, spots, beat):
+    """The order, spots and row of a setting out at a beat, of each walker by itself."""
+    kinds = [kind for kind, _ in row]
+    burdens = [burden for _, burden in row]
+    for moment, i, j in met_on(book, kinds, spots):
+        if moment <= beat:
+            burdens[j], burdens[i] = made_of(book, kinds[i], kinds[j], burdens[i], burdens[j])
+    where = [spot + book[0][kind] * beat for spot, kind in zip(spots, kinds)]
+    order = sorted(range(len(row)), key=lambda i: (where[i], kinds[i]))
+    return tuple(order), tuple(where[i] for i in order), tuple((kinds[i], burdens[i]) for i in order)
+
+
 def last_from(book, row, spots):
     """The last row of a setting out, passing by passing as points 22 to 26 tell."""
-    paces = book[0]
-    passings = []
-    for i, (kind, _) in enumerate(row):
-        for j in range(i + 1, len(row)):
-            other = row[j][0]
-            if kind > other:
-                moment = Fraction(spots[j] - spots[i], paces[kind] - paces[other])
-                passings.append((moment, -kind, -other, i, j))
-    burdens = [burden for _, burden in row]
-    for _, kind, other, i, j in sorted(passings):
-        burdens[j], burdens[i] = made_of(book, -kind, -other, burdens[i], burdens[j])
-    order = sorted(range(len(row)), key=lambda i: row[i][0])
-    return tuple((row[i][0], burdens[i]) for i in order)
+    moments = [moment for moment, _, _ in met_on(book, [kind for kind, _ in row], spots)]
+    return stand_at(book, row, spots, max(moments, default=0).__ceil__())[2]
 
 
 def ups(many, seed=0):

@@ -30,7 +30,10 @@ BUILTIN_METHODS = set(
     "items join keys ljust lower lstrip partition pop remove replace reverse rfind rjust rpartition rsplit rstrip "
     "setdefault split splitlines startswith strip update upper values zfill bit_length add discard".split()
 )
-OWN_CLASS_METHODS = {"__init__"}
+OWN_CLASS_METHODS = set(
+    "__init__ do begin_anew look_place stand walk shift lay leave back copied beat row spots numbers begun letters "
+    "log".split()
+)
 
 
 def nodes_of(path):
@@ -139,6 +142,22 @@ class Language(unittest.TestCase):
             for node in nodes_of(path):
                 if isinstance(node, ast.BinOp) and isinstance(node.op, ast.Pow):
                     self.assertIsInstance(node.right, ast.Constant, path.name)
+
+    def test_no_generator_expressions(self):
+        # A class that compares is there, so any, all, min, max, sum and sorted take lists.
+        for path in FILES:
+            for node in nodes_of(path):
+                self.assertNotIsInstance(node, (ast.GeneratorExp, ast.Yield, ast.YieldFrom), path.name)
+
+    def test_no_name_is_a_method_and_an_attribute(self):
+        methods, attributes = set(), set()
+        for path in FILES:
+            for node in nodes_of(path):
+                if isinstance(node, ast.ClassDef):
+                    methods.update(part.name for part in node.body if isinstance(part, ast.FunctionDef))
+                elif isinstance(node, ast.Attribute) and isinstance(node.ctx, ast.Store):
+                    attributes.add(node.attr)
+        self.assertEqual(methods & attributes, set())
 
     def test_names(self):
         for path in FILES:

@@ -1,17 +1,25 @@
-"""The whole promise, as far as it speaks of books, rows, words and moves."""
+"""The whole promise, as far as it speaks of books, rows, words, moves and roads."""
 
 import itertools
 import unittest
 
+from wherefrom.byhand import Road
 from wherefrom.doing import borne_in, last_row, led_by
 from wherefrom.judging import ends_of, judge_book, parting
+from wherefrom.ledback import led_back, led_freely, look_back, rows_ahead
 from wherefrom.makers import both_books, folding, keeping, sorting, staying, turning
 from wherefrom.moves import join_words, moves_hold, wear_down, word_moved
+from wherefrom.roads import (
+    look_spots, order_by, passings, row_at_last, row_by, settled_at, spots_by, word_by,
+)
 from wherefrom.words import is_forward, last_order, normal_word, order_behind
 from followed import forward_words, good_books, last_from, other_books, some_row, ups
 from samples import mixed_book
 
 KINDS = ((), (2,), (1, 0), (2, 1, 0), (4, 3, 2, 1), (3, 3, 1, 0), (3, 0, 2, 0), (4, 2, 2, 1), (1, 4, 0, 2))
+
+
+SPOTS = ((0, 1, 2, 3), (0, 1, 5000, 10000), (-9, 70, 71, 72), (0, 100, 101, 900), (-4 * 10 ** 18, 0, 1, 4 * 10 ** 18))
 
 
 def rows_of_kinds(book, kinds):
@@ -51,12 +59,30 @@ class GoodBooks(unittest.TestCase):
                         self.assertEqual(last_row(book, last_row(book, rear) + fore), last)
 
     def test_wherever_they_set_out(self):
-        spots = ((0, 1, 2, 3), (0, 1, 5000, 10000), (-9, 70, 71, 72), (0, 100, 101, 900))
         for book in good_books(5, 3):
             for seed in range(4):
                 row = some_row(book, 4, seed)
-                for setting in spots:
-                    self.assertEqual(last_from(book, row, setting), last_row(book, row))
+                for spots in SPOTS:
+                    self.assertEqual(last_from(book, row, spots), last_row(book, row))
+                    self.assertEqual(row_at_last(book, row, spots), last_row(book, row))
+
+    def test_at_any_beat_the_order_alone_counts(self):
+        for book in good_books(5, 3):
+            for seed in range(4):
+                row = some_row(book, 4, seed)
+                kinds = tuple(kind for kind, _ in row)
+                for spots, beat in itertools.product(SPOTS, (0, 1, 2, 5, 90, 10 ** 15)):
+                    order = order_by(book, kinds, spots, beat=beat)
+                    self.assertEqual(row_by(book, row, spots, beat=beat), borne_in(book, row, order))
+
+    def test_ten_walkers_from_far_spots(self):
+        for book in good_books(5, 6)[-20:]:
+            row = some_row(book, 10, 1)
+            for spots in (
+                tuple(range(10)), tuple(range(-4 * 10 ** 18, 4 * 10 ** 18 + 1, 8 * 10 ** 18 // 9))[:10],
+                tuple(k * k * k for k in range(10)), tuple(4 * 10 ** 18 - k for k in reversed(range(10))),
+            ):
+                self.assertEqual(row_at_last(book, row, spots), last_row(book, row))
 
     def test_no_move_between_forward_words_changes_what_is_borne(self):
         for book in (sorting((0, 1, 2, 3, 4), sorts=3), turning((0, 1, 2, 3, 4), ups(5, 3), sorts=5)):
@@ -82,6 +108,7 @@ class AnyBook(unittest.TestCase):
             if parted:
                 row, spots, others = parted
                 self.assertNotEqual(last_from(book, row, spots), last_from(book, row, others))
+                self.assertNotEqual(row_at_last(book, row, spots), row_at_last(book, row, others))
                 self.assertGreater(len(ends_of(book, row)), 1)
             seen.add(judged[0])
         self.assertEqual(seen, {"good", "parted"})
@@ -118,7 +145,8 @@ class ToldAgain(unittest.TestCase):
 
     def asked(self):
         book, good = mixed_book((0, 2, 3), 3), sorting((0, 1, 2), sorts=2)
-        row = ((2, 0), (1, 1), (0, 1))
+        row, spots, kinds = ((2, 0), (1, 1), (0, 1)), (0, 1, 9), (2, 1, 0)
+        free = folding((0, 1, 2), sorts=2)
         moves = [("turn", 0), ("come", 3, 8)]
         return [
             (led_by, (book, row, (0, 1, 0))), (borne_in, (book, row, (2, 1, 0))), (last_row, (good, row)),
@@ -127,6 +155,14 @@ class ToldAgain(unittest.TestCase):
             (is_forward, ((2, 1, 0), (1, 0, 2))), (order_behind, ((2, 1, 0), (0, 1))),
             (word_moved, ((0, 1, 0), moves)), (wear_down, ((0, 1, 0, 2, 2),)), (join_words, ((1, 0, 1), (0, 1, 0))),
             (moves_hold, ((0, 1, 0), (1, 0, 1), (("turn", 0),))),
+            (look_spots, (kinds, spots)), (passings, (book, kinds, spots)), (settled_at, (book, kinds, spots)),
+            (row_at_last, (book, row, spots)), (look_back, (free,)), (led_freely, (free, row, (0, 0, 1))),
+            (rows_ahead, (good, kinds, (0, 1), (0, 1, 1))),
+        ] + [
+            (lambda *things, teller=teller: teller(*things, beat=2), (book, first, spots))
+            for teller, first in ((word_by, kinds), (order_by, kinds), (spots_by, kinds), (row_by, row))
+        ] + [
+            (lambda *things: led_back(*things, beat=5), (good, kinds, spots, (0, 1, 1))),
         ]
 
     def test_the_same(self):
@@ -140,6 +176,20 @@ class ToldAgain(unittest.TestCase):
     def test_tuples_texts_numbers_truths_and_none_alone(self):
         for teller, things in self.asked():
             self.plain(teller(*things))
+
+    def test_of_a_road(self):
+        row, spots = ((2, 0), (1, 1), (0, 1)), (0, 1, 9)
+        road = Road(sorting((0, 1, 2), sorts=2), row, spots)
+        road.walk(3)
+        road.lay(1, 0)
+        tellers = (road.beat, road.row, road.spots, road.numbers, road.begun, road.letters)
+        first = [teller() for teller in tellers]
+        road.copied().walk(9)
+        road.log().clear()
+        self.assertEqual([teller() for teller in tellers], first)
+        self.assertEqual(row + spots, ((2, 0), (1, 1), (0, 1), 0, 1, 9))
+        for thing in first:
+            self.plain(thing)
 
     def plain(self, thing):
         self.assertIn(type(thing), (tuple, str, int, bool, type(None)))

@@ -7,12 +7,15 @@ MOST_SORTS = 6
 MOST_PACE = 1000
 
 
+def is_number(thing):
+    """Whether the thing is a whole number, of any size."""
+    # Python counts True and False among the ints, the document does not.
+    return isinstance(thing, int) and not isinstance(thing, bool)
+
+
 def is_whole(thing, least, most):
     """Whether the thing is a whole number from least to most."""
-    # Python counts True and False among the ints, the document does not.
-    if isinstance(thing, bool) or not isinstance(thing, int):
-        return False
-    return least <= thing <= most
+    return is_number(thing) and least <= thing <= most
 
 
 def is_tuple_of(thing, many):

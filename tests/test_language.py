@@ -28,7 +28,9 @@ BARRED_NODES = (
 BUILTIN_METHODS = set(
     "append clear copy count endswith extend find get index insert isalnum isalpha isdigit islower isspace isupper "
     "items join keys ljust lower lstrip partition pop remove replace reverse rfind rjust rpartition rsplit rstrip "
-    "setdefault split splitlines startswith strip update upper values zfill bit_length add discard".split()
+    "setdefault split splitlines startswith strip update upper values zfill bit_length add discard "
+    "title capitalize swapcase casefold center expandtabs removeprefix removesuffix rindex isascii isdecimal isnumeric "
+    "istitle isidentifier isprintable translate".split()
 )
 OWN_CLASS_METHODS = set(
     "__init__ do begin_anew look_place stand walk shift lay leave back copied beat row spots numbers begun letters "

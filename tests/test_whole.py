@@ -1,20 +1,25 @@
-"""The whole promise, as far as it speaks of books, rows, words, moves and roads."""
+"""The whole promise, over all modules of the program."""
 
 import itertools
 import unittest
 
+from wherefrom.books import with_pair
 from wherefrom.byhand import Road
 from wherefrom.doing import borne_in, last_row, led_by
 from wherefrom.judging import ends_of, judge_book, parting
 from wherefrom.ledback import led_back, led_freely, look_back, rows_ahead
-from wherefrom.makers import both_books, folding, keeping, sorting, staying, turning
+from wherefrom.makers import both_books, folding, keeping, renamed, sorting, staying, turning
+from wherefrom.mending import mend_book, pairs_asked, unmended_holds
 from wherefrom.moves import join_words, moves_hold, wear_down, word_moved
 from wherefrom.roads import (
     look_spots, order_by, passings, row_at_last, row_by, settled_at, spots_by, word_by,
 )
+from wherefrom.rounds import comes_again, round_burdens, round_passings, rounds_done
+from wherefrom.sights import beginnings, clash_of
+from wherefrom.texts import read_book, read_setting, show_book, show_setting
 from wherefrom.words import is_forward, last_order, normal_word, order_behind
 from followed import forward_words, good_books, last_from, other_books, some_row, ups
-from samples import mixed_book
+from samples import mixed_book, two_kinds
 
 KINDS = ((), (2,), (1, 0), (2, 1, 0), (4, 3, 2, 1), (3, 3, 1, 0), (3, 0, 2, 0), (4, 2, 2, 1), (1, 4, 0, 2))
 
@@ -140,6 +145,67 @@ class AnyBook(unittest.TestCase):
                         self.assertEqual(order_behind(kinds, one), order)
 
 
+class Renamed(unittest.TestCase):
+    """Burdens renamed bring all renamed."""
+
+    def test_all_that_is_borne(self):
+        names, spots = (2, 0, 1), (0, 1, 4, 9)
+        for book in [mixed_book((0, 2, 3), 3, seed) for seed in range(5)] + [sorting((0, 2, 3), sorts=3)]:
+            new = renamed(book, names)
+            self.assertEqual(judge_book(new)[0], judge_book(book)[0])
+            for seed in range(4):
+                row = some_row(book, 4, seed)
+                kinds = tuple(kind for kind, _ in row)
+                new_row = self.rows(names, row)
+                self.assertEqual(last_row(new, new_row), self.rows(names, last_row(book, row)))
+                for beat in (0, 1, 2, 5, 10 ** 15):
+                    self.assertEqual(
+                        row_by(new, new_row, spots, beat=beat), self.rows(names, row_by(book, row, spots, beat=beat)))
+                    borne = round_burdens(book, row, spots, long=11, beat=beat)
+                    self.assertEqual(
+                        round_burdens(new, new_row, spots, long=11, beat=beat), self.burdens(names, borne))
+                self.assertEqual(comes_again(new, new_row), comes_again(book, row))
+                sights = [(0, 1, row[1][1]), (3, 0, 2), (7, 3, 1)]
+                new_sights = [(beat, place, names[burden]) for beat, place, burden in sights]
+                met = beginnings(book, kinds, spots, sights)
+                self.assertEqual(
+                    beginnings(new, kinds, spots, new_sights), tuple(sorted(self.burdens(names, one) for one in met)))
+                self.assertEqual(clash_of(new, kinds, spots, new_sights), clash_of(book, kinds, spots, sights))
+                self.assertEqual(
+                    set(ends_of(new, new_row)), {self.burdens(names, end) for end in ends_of(book, row)})
+
+    def rows(self, names, row):
+        return tuple((kind, names[burden]) for kind, burden in row)
+
+    def burdens(self, names, burdens):
+        return tuple(names[burden] for burden in burdens)
+
+    def test_mended_by_as_many(self):
+        for seed in range(4):
+            book = mixed_book((0, 2, 3), 2, seed)
+            told, new = mend_book(book, most=2), mend_book(renamed(book, (1, 0)), most=2)
+            self.assertEqual((told[0], len(told[1])), (new[0], len(new[1])))
+
+
+class Mended(unittest.TestCase):
+    def test_never_part(self):
+        seen = 0
+        for book in (sorting((0, 1, 2, 3), sorts=2), folding((0, 1, 2, 3), sorts=2), staying((0, 1, 2, 3), sorts=3)):
+            for (u, v), a in itertools.product(two_kinds(4), range(2)):
+                wrong = with_pair(book, u, v, a, 1, (1, 0))
+                word, changes, _ = mend_book(wrong)
+                self.assertEqual(word, "mended")
+                for asked, pair in changes:
+                    wrong = with_pair(wrong, *asked, pair)
+                    seen += 1
+                self.assertIsNone(parting(wrong))
+                for seed in range(3):
+                    row = some_row(wrong, 4, seed)
+                    self.assertEqual({row_at_last(wrong, row, spots) for spots in SPOTS}, {last_row(wrong, row)})
+                    self.assertEqual(len(ends_of(wrong, row)), 1)
+        self.assertGreater(seen, 10)
+
+
 class ToldAgain(unittest.TestCase):
     """What is asked again is told the same, whatever was asked between."""
 
@@ -158,11 +224,18 @@ class ToldAgain(unittest.TestCase):
             (look_spots, (kinds, spots)), (passings, (book, kinds, spots)), (settled_at, (book, kinds, spots)),
             (row_at_last, (book, row, spots)), (look_back, (free,)), (led_freely, (free, row, (0, 0, 1))),
             (rows_ahead, (good, kinds, (0, 1), (0, 1, 1))),
+            (beginnings, (book, kinds, spots, [(1, 0, 1), (9, 2, 0)])), (comes_again, (book, row)),
+            (clash_of, (good, kinds, spots, [(0, 0, 1), (0, 0, 0), (5, 1, 1)])), (rounds_done, (book, row)),
+            (pairs_asked, (book, kinds, (0, 1, 2))), (mend_book, (book,)), (mend_book, (good,)),
+            (unmended_holds, (book, mend_book(book, most=1)[1])), (show_book, (book,)), (show_setting, (row, spots)),
+            (read_book, (show_book(book),)), (read_setting, (book, show_setting(row, spots))),
         ] + [
             (lambda *things, teller=teller: teller(*things, beat=2), (book, first, spots))
             for teller, first in ((word_by, kinds), (order_by, kinds), (spots_by, kinds), (row_by, row))
         ] + [
             (lambda *things: led_back(*things, beat=5), (good, kinds, spots, (0, 1, 1))),
+            (lambda *things: round_passings(*things, long=12), (book, kinds, spots)),
+            (lambda *things: round_burdens(*things, long=12, beat=10 ** 15), (book, row, spots)),
         ]
 
     def test_the_same(self):

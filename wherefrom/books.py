@@ -28,6 +28,11 @@ def table_number(u, v):
     return u * (u - 1) // 2 + v
 
 
+def two_kinds(many):
+    """All kinds (u, v), u above v, of so many kinds, in the order of a book's tables."""
+    return [(u, v) for u in range(many) for v in range(u)]
+
+
 def tables_due(kinds):
     """How many tables a book of so many kinds has."""
     return kinds * (kinds - 1) // 2

@@ -1,6 +1,6 @@
 """Led back: books that go back, passings taken away, and what rows bring the burdens that are borne."""
 
-from wherefrom.books import pair_at, table_number
+from wherefrom.books import pair_at, table_number, two_kinds
 from wherefrom.errors import NoPassing, NoWay
 from wherefrom.roads import word_by
 from wherefrom.words import is_letter, order_behind
@@ -9,11 +9,9 @@ from wherefrom.words import is_letter, order_behind
 def look_back(book):
     """True of a book that goes back; else NoWay of the first table that isn't one to one."""
     paces, sorts, tables = book
-    for u in range(len(paces)):
-        for v in range(u):
-            table = tables[table_number(u, v)]
-            if len(set(table)) < len(table):
-                raise NoWay(u, v)
+    for (u, v), table in zip(two_kinds(len(paces)), tables):
+        if len(set(table)) < len(table):
+            raise NoWay(u, v)
     return True
 
 

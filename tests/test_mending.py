@@ -252,6 +252,9 @@ class UnmendedHolds(unittest.TestCase):
         for wrong in itertools.product((-1, 0, 1, 2, 3), repeat=3):
             if wrong != (2, 1, 0):
                 self.assertIs(unmended_holds(book, (wrong, burdens, cases), most=0), False)
+        wide = mixed_book((0, 1, 2, 3), 2, 1)
+        for wrong in ((4, 1, 0), (5, 4, 3), (6, 5, 4), (3, 1, -1), (3, 3, 0)):
+            self.assertIs(unmended_holds(wide, (wrong, burdens, cases), most=0), False)
         for wrong in ((0, 0, 2), (-1, 0, 0), (0, 0), (0, 0, 0, 0), "010", (0, None, 0)):
             self.assertIs(unmended_holds(book, (kinds, wrong, cases), most=0), False)
 

@@ -108,6 +108,13 @@ class Beginnings(unittest.TestCase):
         self.assertEqual(beginnings(book, (1, 0), (0, 5), [(5, 0, 1), (5, 1, 0)]), ())
         self.assertEqual(beginnings(sights=((0, 0, 1),), spots=(3,), kinds=(1,), book=book), ((1,),))
 
+    def test_at_a_place_that_is_not_there_nothing_is_borne(self):
+        book = keeping((0, 1), sorts=2)
+        for kinds, spots in (((), ()), ((1,), (3,)), ((1, 0), (0, 5))):
+            for place in (-1, -2, len(kinds), len(kinds) + 1):
+                self.assertEqual(beginnings(book, kinds, spots, [(0, place, 0)]), ())
+                self.assertEqual(clash_of(book, kinds, spots, [(0, place, 0)]), (0,))
+
     def test_the_list_stays(self):
         sights = [(0, 0, 1), (LONG, 1, 0)]
         for teller in (beginnings, clash_of):
